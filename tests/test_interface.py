@@ -1,0 +1,132 @@
+"""The names and arguments that the interface lists, its examples, and those of README.md."""
+
+import importlib
+import inspect
+import pathlib
+import re
+import unittest
+
+from thaumatrope.bits import BitWriter
+from thaumatrope.coder import Encoder
+from thaumatrope.frames import Format
+from thaumatrope.units import escape, read_units
+
+FUNCTIONS = {
+    "frames": [
+        "flat_frame(fmt, value=None)", "check_frame(fmt, frame)", "pad_frame(fmt, frame)",
+        "crop_planes(fmt, planes)", "copy_planes(planes)", "squared_error(fmt, first, second)",
+    ],
+    "units": [
+        "escape(octets)", "unescape(octets)", "write_unit(kind, payload)", "write_units(units)",
+        "read_units(octets)",
+    ],
+    "headers": [
+        "write_settings(settings)", "write_picture(settings, header)", "write_slice(settings, header, code)",
+        "read_settings(payload)", "read_picture(settings, payload)", "read_slice(settings, payload)",
+        "slice_level(picture_header, slice_header)",
+    ],
+    "data": [
+        "level_shape(fmt, size)", "zero_levels(fmt, size)", "check_block(settings, header, block)",
+        "check_slice(settings, header, index, data)",
+    ],
+    "intra": [
+        "borders(plane, x, y, n, *, first_row, middle)", "predict_area(above, left, corner, mode, *, top)",
+    ],
+}
+CLASSES = {
+    ("frames", "Format"): [
+        "__init__(self, width, height, *, depth=8, chroma=0)", "size(self, plane)", "coded_size(self, plane)",
+        "blocks(self)", "text(self)", "planes", "middle", "top",
+    ],
+    ("bits", "BitWriter"): [
+        "__init__(self)", "put(self, value, count)", "put_ue(self, value)", "put_se(self, value)", "length",
+        "octets(self)",
+    ],
+    ("bits", "BitReader"): [
+        "__init__(self, octets)", "get(self, count)", "get_ue(self)", "get_se(self)", "left",
+    ],
+    ("coder", "Encoder"): [
+        "__init__(self)", "code(self, context, decision)", "code_even(self, decision)", "octets(self)",
+        "probability(self, context)",
+    ],
+    ("coder", "Decoder"): [
+        "__init__(self, octets)", "read(self, context)", "read_even(self)", "probability(self, context)",
+    ],
+    ("symbols", "SymbolWriter"): [
+        "__init__(self, encoder)", "flag(self, base, value)", "choice(self, base, value, *, count)",
+        "unary(self, base, value, *, most)", "number(self, base, value)", "signed(self, base, value)",
+        "even(self, decision)",
+    ],
+    ("symbols", "SymbolReader"): [
+        "__init__(self, decoder)", "flag(self, base)", "choice(self, base, *, count)",
+        "unary(self, base, *, most)", "number(self, base)", "signed(self, base)", "even(self)",
+    ],
+    ("headers", "Settings"): [
+        "__init__(self, fmt, *, slots=1, rows=1, deblock=False, offset=False, layers=1)", "slices(self)",
+        "slice_rows(self, index)",
+    ],
+    ("headers", "PictureHeader"): [
+        "__init__(self, settings, *, number, kind='I', level=0, store=(), refs=(), weight=8, layer=0, "
+        "shown=True, edge=0)",
+    ],
+    ("headers", "SliceHeader"): ["__init__(self, settings, *, number, index, delta=0)"],
+}
+
+
+class Names(unittest.TestCase):
+    def test_functions(self):
+        for module, texts in FUNCTIONS.items():
+            for text in texts:
+                function = getattr(importlib.import_module(f"thaumatrope.{module}"), text.partition("(")[0])
+                self.assertEqual(function.__module__, f"thaumatrope.{module}")
+                self.assertEqual(function.__name__ + str(inspect.signature(function)), text)
+
+    def test_classes(self):
+        for (module, name), texts in CLASSES.items():
+            made = getattr(importlib.import_module(f"thaumatrope.{module}"), name)
+            self.assertEqual(made.__module__, f"thaumatrope.{module}")
+            for text in texts:
+                word, bracket, _ = text.partition("(")
+                self.assertIn(word, made.__dict__)
+                if bracket:
+                    self.assertEqual(word + str(inspect.signature(made.__dict__[word])), text)
+                else:
+                    self.assertIsInstance(made.__dict__[word], property)
+
+    def test_class_method(self):
+        self.assertIsInstance(Format.__dict__["parse"], classmethod)
+        self.assertEqual(str(inspect.signature(Format.parse)), "(text)")
+
+    def test_generator(self):
+        self.assertTrue(inspect.isgeneratorfunction(read_units))
+
+
+class Examples(unittest.TestCase):
+    def test_frames(self):
+        self.assertEqual(Format(17, 5, chroma=1).coded_size(1), (12, 4))
+        self.assertEqual(Format(17, 5, chroma=1).text(), "17x5:8:1")
+
+    def test_bits(self):
+        writer = BitWriter()
+        writer.put(5, 3)
+        self.assertEqual(writer.octets(), [176])
+
+    def test_units(self):
+        self.assertEqual(escape([0, 0, 2]), [0, 0, 3, 2])
+        self.assertEqual(list(read_units([7, 0, 0, 1, 4, 128])), [(1, 4, [])])
+
+    def test_coder(self):
+        encoder = Encoder()
+        encoder.code_even(1)
+        self.assertEqual(encoder.octets(), [127, 255, 248])
+
+    def test_readme(self):
+        text = (pathlib.Path(__file__).resolve().parent.parent / "README.md").read_text()
+        examples = re.findall(r"```python\n(.*?)```", text, re.DOTALL)
+        self.assertTrue(examples)
+        for example in examples:
+            exec(example, {})
+
+
+if __name__ == "__main__":
+    unittest.main()

@@ -1,0 +1,1 @@
+"""Thaumatrope: a video codec whose decoder reproduces the encoder's pictures exactly."""
