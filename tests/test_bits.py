@@ -3,25 +3,9 @@
 import random
 import unittest
 
+from tests.plain_bits import octets_of, se_of, ue_of
 from thaumatrope.bits import BitReader, BitWriter
 from thaumatrope.errors import BadOctets, OutOfBits, OutOfRange
-
-
-def octets_of(bits):
-    """The octets that contain a text of bits, as point 8 says."""
-    bits += "1"
-    bits += "0" * (-len(bits) % 8)
-    return [int(bits[place:place + 8], 2) for place in range(0, len(bits), 8)]
-
-
-def ue_of(value):
-    """The exponential code of a number, as a text of bits."""
-    digits = f"{value + 1:b}"
-    return "0" * (len(digits) - 1) + digits
-
-
-def se_of(value):
-    return ue_of(2 * value - 1 if value > 0 else -2 * value)
 
 
 def written(bits):

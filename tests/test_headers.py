@@ -4,6 +4,7 @@ import itertools
 import random
 import unittest
 
+from tests.plain_bits import octets_of, se_of, ue_of
 from thaumatrope.bits import BitWriter
 from thaumatrope.errors import BadHeader, CodecError, OutOfRange
 from thaumatrope.frames import Format
@@ -17,42 +18,27 @@ FULL = Settings(FMT, slots=4, rows=2, deblock=True, offset=True, layers=4)
 PLAIN = Settings(Format(8, 8))
 
 
-def ue(value):
-    digits = f"{value + 1:b}"
-    return "0" * (len(digits) - 1) + digits
-
-
-def se(value):
-    return ue(2 * value - 1 if value > 0 else -2 * value)
-
-
-def octets_of(bits):
-    bits += "1"
-    bits += "0" * (-len(bits) % 8)
-    return [int(bits[place:place + 8], 2) for place in range(0, len(bits), 8)]
-
-
 def bits_of(octets):
     return "".join([f"{octet:08b}" for octet in octets]).rstrip("0")[:-1]
 
 
 def settings_bits(settings, version=1):
     fmt = settings.fmt
-    bits = f"{version:08b}" + ue(fmt.width - 1) + ue(fmt.height - 1) + ue(fmt.depth - 8) + ue(fmt.chroma)
-    bits += ue(settings.slots - 1) + ue(settings.rows - 1)
-    return bits + str(int(settings.deblock)) + str(int(settings.offset)) + ue(settings.layers - 1)
+    bits = f"{version:08b}" + ue_of(fmt.width - 1) + ue_of(fmt.height - 1) + ue_of(fmt.depth - 8) + ue_of(fmt.chroma)
+    bits += ue_of(settings.slots - 1) + ue_of(settings.rows - 1)
+    return bits + str(int(settings.deblock)) + str(int(settings.offset)) + ue_of(settings.layers - 1)
 
 
 def picture_bits(settings, header):
-    bits = ue(header.number) + ue("IPB".index(header.kind)) + ue(header.level)
+    bits = ue_of(header.number) + ue_of("IPB".index(header.kind)) + ue_of(header.level)
     bits += "".join(["1" if slot in header.store else "0" for slot in range(settings.slots)])
     if header.kind == "P":
         bits += "1" if len(header.refs) == 2 else "0"
     bits += "".join([f"{slot:02b}" for slot in header.refs])
     if header.kind == "B":
-        bits += ue(header.weight)
-    bits += ue(header.layer) + ("1" if header.shown else "0")
-    return bits + (se(header.edge) if settings.deblock else "")
+        bits += ue_of(header.weight)
+    bits += ue_of(header.layer) + ("1" if header.shown else "0")
+    return bits + (se_of(header.edge) if settings.deblock else "")
 
 
 ALL_SETTINGS = [
@@ -370,7 +356,7 @@ class Payloads(unittest.TestCase):
                 for delta in (-31, -1, 0, 1, 31):
                     for code in ([], [0], [128, 0], [0, 0, 0], [255] * 300):
                         header = SliceHeader(settings, number=number, index=index, delta=delta)
-                        head = octets_of(ue(number) + ue(index) + se(delta))
+                        head = octets_of(ue_of(number) + ue_of(index) + se_of(delta))
                         payload = write_slice(settings, header, code)
                         self.assertEqual(payload, [len(head)] + head + code)
                         before = list(payload)
@@ -439,44 +425,44 @@ class Refusals(unittest.TestCase):
             self.refuse_settings("00000001" + "0" * zeros + "1")
             self.refuse_picture(FULL, "0" * zeros)
             self.refuse_picture(FULL, "0" * zeros + "1")
-            self.refuse_picture(FULL, ue(0) + ue(0) + ue(0) + "0000" + ue(0) + "1" + "0" * zeros)
+            self.refuse_picture(FULL, ue_of(0) + ue_of(0) + ue_of(0) + "0000" + ue_of(0) + "1" + "0" * zeros)
             with self.assertRaises(BadHeader):
                 head = octets_of("0" * zeros + "1")
                 read_slice(FULL, [len(head)] + head)
 
     def test_settings_out_of_range(self):
-        fields = [ue(7), ue(7), ue(0), ue(0), ue(0), ue(0), "0", "0", ue(0)]
+        fields = [ue_of(7), ue_of(7), ue_of(0), ue_of(0), ue_of(0), ue_of(0), "0", "0", ue_of(0)]
         read_settings(octets_of("00000001" + "".join(fields)))
         greatest = {0: 255, 1: 255, 2: 4, 3: 2, 4: 3, 5: 31, 8: 3}
         for place, most in greatest.items():
-            right = fields[:place] + [ue(most)] + fields[place + 1:]
+            right = fields[:place] + [ue_of(most)] + fields[place + 1:]
             read_settings(octets_of("00000001" + "".join(right)))
             for value in (most + 1, 1000, 2 ** 32, 2 ** 33 - 2):
-                wrong = fields[:place] + [ue(value)] + fields[place + 1:]
+                wrong = fields[:place] + [ue_of(value)] + fields[place + 1:]
                 self.refuse_settings("00000001" + "".join(wrong))
 
     def test_pictures_out_of_range(self):
-        one = [ue(5), ue(0), ue(6), "0010", ue(1), "1", se(2)]
-        both = [ue(5), ue(2), ue(6), "0010", "0111", ue(9), ue(1), "1", se(2)]
+        one = [ue_of(5), ue_of(0), ue_of(6), "0010", ue_of(1), "1", se_of(2)]
+        both = [ue_of(5), ue_of(2), ue_of(6), "0010", "0111", ue_of(9), ue_of(1), "1", se_of(2)]
         greatest = [(one, 0, 999), (one, 2, 31), (one, 4, 3), (both, 5, 16), (both, 6, 3)]
         for fields, place, most in greatest:
-            right = fields[:place] + [ue(most)] + fields[place + 1:]
+            right = fields[:place] + [ue_of(most)] + fields[place + 1:]
             read_picture(FULL, octets_of("".join(right)))
             for value in (most + 1, 2000, 2 ** 32, 2 ** 33 - 2):
-                self.refuse_picture(FULL, "".join(fields[:place] + [ue(value)] + fields[place + 1:]))
+                self.refuse_picture(FULL, "".join(fields[:place] + [ue_of(value)] + fields[place + 1:]))
         for edge in (-7, 7, 100, -2 ** 31, 2 ** 32 - 1):
-            self.refuse_picture(FULL, "".join(one[:6] + [se(edge)]))
+            self.refuse_picture(FULL, "".join(one[:6] + [se_of(edge)]))
         for kind in (3, 4, 100):
-            self.refuse_picture(FULL, "".join(one[:1] + [ue(kind)] + one[2:]))
-            self.refuse_picture(FULL, "".join(both[:1] + [ue(kind)] + both[2:]))
+            self.refuse_picture(FULL, "".join(one[:1] + [ue_of(kind)] + one[2:]))
+            self.refuse_picture(FULL, "".join(both[:1] + [ue_of(kind)] + both[2:]))
 
     def test_slots_of_refs_out_of_range(self):
         for slots in (1, 2, 3):
             settings = Settings(FMT, slots=slots)
             for slot in range(4):
-                bits = [ue(0) + ue(1) + ue(0) + "0" * slots + "0" + f"{slot:02b}" + ue(0) + "1"]
-                bits += [ue(0) + ue(1) + ue(0) + "0" * slots + "1" + f"00{slot:02b}" + ue(0) + "1"]
-                bits += [ue(0) + ue(2) + ue(0) + "0" * slots + f"{slot:02b}00" + ue(8) + ue(0) + "1"]
+                bits = [ue_of(0) + ue_of(1) + ue_of(0) + "0" * slots + "0" + f"{slot:02b}" + ue_of(0) + "1"]
+                bits += [ue_of(0) + ue_of(1) + ue_of(0) + "0" * slots + "1" + f"00{slot:02b}" + ue_of(0) + "1"]
+                bits += [ue_of(0) + ue_of(2) + ue_of(0) + "0" * slots + f"{slot:02b}00" + ue_of(8) + ue_of(0) + "1"]
                 for text in bits:
                     if slot < slots:
                         read_picture(settings, octets_of(text))
@@ -484,8 +470,9 @@ class Refusals(unittest.TestCase):
                         self.refuse_picture(settings, text)
 
     def test_slices_out_of_range(self):
-        for number, index, delta in ((1000, 0, 0), (0, 2, 0), (0, 0, 32), (0, 0, -32), (2 ** 32, 0, 0), (0, 2 ** 32, 0)):
-            head = octets_of(ue(number) + ue(index) + se(delta))
+        wrong = [(1000, 0, 0), (0, 2, 0), (0, 0, 32), (0, 0, -32), (2 ** 32, 0, 0), (0, 2 ** 32, 0)]
+        for number, index, delta in wrong:
+            head = octets_of(ue_of(number) + ue_of(index) + se_of(delta))
             with self.assertRaises(BadHeader):
                 read_slice(FULL, [len(head)] + head + [7])
 
@@ -504,7 +491,7 @@ class Refusals(unittest.TestCase):
             read_slice(FULL, [0, 128])
 
     def test_slice_headers_with_bits_left_over_or_missing(self):
-        bits = ue(300) + ue(1) + se(-7)
+        bits = ue_of(300) + ue_of(1) + se_of(-7)
         for more in ("0", "1", "0" * 8, "1" * 30):
             head = octets_of(bits + more)
             with self.assertRaises(BadHeader):
