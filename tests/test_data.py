@@ -3,16 +3,12 @@
 import copy
 import unittest
 
+from tests.plain_syntax import SHAPES
 from thaumatrope.data import check_block, check_slice, level_shape, zero_levels
 from thaumatrope.errors import BadData, OutOfRange
 from thaumatrope.frames import Format
 from thaumatrope.headers import PictureHeader, Settings
 
-SHAPES = {
-    (0, 8): [(1, 64)], (0, 4): [(4, 16)],
-    (1, 8): [(1, 64), (1, 16), (1, 16)], (1, 4): [(4, 16), (1, 16), (1, 16)],
-    (2, 8): [(1, 64), (1, 64), (1, 64)], (2, 4): [(4, 16), (4, 16), (4, 16)],
-}
 ENDS = (-524288, 524287)
 
 

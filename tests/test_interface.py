@@ -8,7 +8,12 @@ import unittest
 
 from thaumatrope.bits import BitWriter
 from thaumatrope.coder import Encoder
+from thaumatrope.deblock import edge_limit, smooth_edge
+from thaumatrope.filters import quarter_sample
 from thaumatrope.frames import Format
+from thaumatrope.quant import quantize
+from thaumatrope.residue import scan_order
+from thaumatrope.transform import forward, split_pair, turn_pair
 from thaumatrope.units import escape, read_units
 
 FUNCTIONS = {
@@ -32,6 +37,42 @@ FUNCTIONS = {
     "intra": [
         "borders(plane, x, y, n, *, first_row, middle)", "predict_area(above, left, corner, mode, *, top)",
     ],
+    "vectors": [
+        "write_motion(writer, header, grid, x, y, motion)", "read_motion(reader, header, grid, x, y)",
+    ],
+    "filters": [
+        "quarter_sample(plane, x, y, *, top)", "eighth_sample(plane, x, y, *, top)",
+        "quarter_area(plane, x, y, width, height, *, top)", "eighth_area(plane, x, y, width, height, *, top)",
+    ],
+    "inter": [
+        "predict_motion(fmt, header, motion, references, plane, x, y, width, height)",
+        "predict_block(fmt, header, motions, references, column, row)",
+    ],
+    "transform": [
+        "split_pair(first, second)", "join_pair(low, high)", "turn_pair(first, second, *, outer, inner)",
+        "turn_back(first, second, *, outer, inner)", "forward(values)", "inverse(values)",
+        "forward_square(square)", "inverse_square(square)",
+    ],
+    "quant": [
+        "step_of(quantizer)", "quantize(value, *, quantizer, rounding=4)", "restore(level, quantizer)",
+        "quantize_square(square, *, quantizer, rounding=4)", "restore_square(square, quantizer)",
+    ],
+    "residue": [
+        "scan_order(size)", "to_levels(square)", "to_square(levels)", "put_levels(writer, levels)",
+        "get_levels(reader, size)",
+    ],
+    "syntax": [
+        "write_data(settings, header, index, data)", "read_data(settings, header, index, code, *, delta=0)",
+    ],
+    "rebuild": [
+        "residue_of(levels, quantizer)",
+        "rebuild_slice(settings, header, index, data, planes, references)",
+    ],
+    "deblock": [
+        "edge_limit(first, second, edge)", "smooth_edge(a1, a0, b0, b1, *, limit, top)",
+        "deblock(fmt, header, planes, blocks)",
+    ],
+    "offset": ["apply_offsets(settings, planes, offsets)"],
 }
 CLASSES = {
     ("frames", "Format"): [
@@ -70,6 +111,10 @@ CLASSES = {
         "shown=True, edge=0)",
     ],
     ("headers", "SliceHeader"): ["__init__(self, settings, *, number, index, delta=0)"],
+    ("vectors", "MotionGrid"): [
+        "__init__(self, columns, rows)", "keep(self, column, row, motions)", "keep_quarter(self, x, y, motion)",
+        "motion_at(self, x, y)", "predicted(self, x, y, *, second=False)", "skipped(self, column, row, kind)",
+    ],
 }
 
 
@@ -119,6 +164,24 @@ class Examples(unittest.TestCase):
         encoder = Encoder()
         encoder.code_even(1)
         self.assertEqual(encoder.octets(), [127, 255, 248])
+
+    def test_filters(self):
+        self.assertEqual(quarter_sample([[10, 20]], 2, 0, top=255), 15)
+
+    def test_transform(self):
+        self.assertEqual(split_pair(5, 2), (3, 3))
+        self.assertEqual(turn_pair(10, 4, outer=6, inner=12), (8, 8))
+        self.assertEqual(forward([1, 2, 3, 4]), [2, -2, 0, -2])
+
+    def test_quant(self):
+        self.assertEqual(quantize(-13, quantizer=4), -1)
+
+    def test_residue(self):
+        self.assertEqual(scan_order(4)[:6], [(0, 0), (0, 1), (1, 0), (2, 0), (1, 1), (0, 2)])
+
+    def test_deblock(self):
+        self.assertEqual(edge_limit(4, 6, 0), 6)
+        self.assertEqual(smooth_edge(100, 100, 108, 108, limit=6, top=255), (102, 106))
 
     def test_readme(self):
         text = (pathlib.Path(__file__).resolve().parent.parent / "README.md").read_text()

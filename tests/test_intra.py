@@ -4,42 +4,12 @@ import copy
 import random
 import unittest
 
+from tests.plain_samples import plain_area
 from thaumatrope.errors import OutOfRange
 from thaumatrope.intra import borders, predict_area
 
 # A plane in which each sample tells its place.
 PLANE = [[16 * y + x for x in range(16)] for y in range(16)]
-
-
-def plain_sample(above, left, corner, mode, top, i, j):
-    """The predicted sample at column i and row j in the words of point 27."""
-    n = len(above)
-    shift = 4 if n == 8 else 3
-    if mode == 0:
-        return (sum(above) + sum(left) + n) >> shift
-    if mode == 1:
-        return above[i]
-    if mode == 2:
-        return left[j]
-    if mode == 3:
-        return ((n - 1 - j) * above[i] + (j + 1) * left[n - 1] + (n - 1 - i) * left[j]
-                + (i + 1) * above[n - 1] + n) >> shift
-    target = left[j] + above[i] - corner
-    if mode == 4:
-        return min([left[j], above[i], corner], key=lambda sample: abs(sample - target))
-    if mode == 5:
-        return max(0, min(top, target))
-    if mode == 6:
-        edge = [left[n - 1 - k] for k in range(n)] + [corner] + above
-        k = n + i - j
-        return (edge[k - 1] + 2 * edge[k] + edge[k + 1] + 2) >> 2
-    a, b, c = [min(i + j + k, n - 1) for k in range(3)]
-    return (above[a] + 2 * above[b] + above[c] + 2) >> 2
-
-
-def plain_area(above, left, corner, mode, top):
-    n = len(above)
-    return [[plain_sample(above, left, corner, mode, top, i, j) for i in range(n)] for j in range(n)]
 
 
 class Borders(unittest.TestCase):
