@@ -29,10 +29,6 @@ def levels_of(chroma, size, level=0):
     return [[[level] * length for _ in range(count)] for count, length in SHAPES[chroma, size]]
 
 
-def one_motion(kind):
-    return (0, 0, None, (3, -4)) if kind == "second" else (0, 0, (3, -4), None)
-
-
 MOTIONS = {
     "P": [(0, 0, (0, 0), None), (0, 0, (1023, -1023), None), (0, 0, (-1023, 1023), None)],
     "PP": [(0, 0, (0, 0), None), (0, 1, (7, 8), None)],

@@ -160,6 +160,18 @@ class Quarters(Each):
             differ += found != early
         self.assertGreater(differ, 0)
 
+    def test_sums_just_below_and_at_a_half(self):
+        # A sum of 2047 of 4096 parts is rounded down, and one of 2048 is rounded up.
+        chance = random.Random(8)
+        found = {2047: 0, 2048: 0}
+        while min(found.values()) == 0:
+            plane = [[chance.randint(100, 150) for _ in range(6)] for _ in range(6)]
+            value = plain_quarter_sum(plane, 9, 11)
+            if value % 4096 in found:
+                found[value % 4096] += 1
+                expected = value // 4096 + (1 if value % 4096 == 2048 else 0)
+                self.assertEqual(quarter_sample(plane, 9, 11, top=255), expected)
+
     def test_whole_positions(self):
         self.check_whole_positions(quarter_area, quarter_sample, 4, 3)
 

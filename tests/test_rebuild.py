@@ -174,7 +174,8 @@ class Intra(Rebuilding):
 
     def test_the_level_of_the_slice(self):
         settings = Settings(Format(8, 8, depth=12))
-        for level, delta, step in ((0, 0, 1), (4, 0, 9), (4, 3, 20), (4, -3, 2), (2, -9, 1), (30, 9, 272), (31, -31, 1)):
+        cases = [(0, 0, 1), (4, 0, 9), (4, 3, 20), (4, -3, 2), (2, -9, 1), (30, 9, 272), (31, -31, 1)]
+        for level, delta, step in cases:
             header = header_of(settings, "I", level=level)
             data = delta, [None], [("intra", [0], 0, [[[-2] + [0] * 63]])]
             found = self.check(settings, header, 0, data, flat_planes(settings.fmt, 0))

@@ -107,7 +107,12 @@ class SliceHeader:
 
 def slice_level(picture_header, slice_header):
     """Return the quantization level of a slice."""
-    return clip(picture_header.level + slice_header.delta, 0, GREATEST_LEVEL)
+    return level_with(picture_header, slice_header.delta)
+
+
+def level_with(picture_header, delta):
+    """Return the quantization level of a slice with this delta."""
+    return clip(picture_header.level + delta, 0, GREATEST_LEVEL)
 
 
 def write_settings(settings):

@@ -3,7 +3,7 @@
 from thaumatrope.arithmetic import clip
 from thaumatrope.blocks import block_areas, put_area, slice_span
 from thaumatrope.data import zero_levels
-from thaumatrope.headers import SliceHeader, slice_level
+from thaumatrope.headers import level_with
 from thaumatrope.inter import predict_block
 from thaumatrope.intra import borders, predict_area
 from thaumatrope.quant import restore_square
@@ -20,8 +20,7 @@ def residue_of(levels, quantizer):
 def rebuild_slice(settings, header, index, data, planes, references):
     """Write the samples of a slice into coded planes, which this modifies."""
     delta, _, blocks = data
-    slice_header = SliceHeader(settings, number=header.number, index=index, delta=delta)
-    quantizer = slice_level(header, slice_header)
+    quantizer = level_with(header, delta)
     builder = SliceBuilder(settings, header, index, quantizer, planes, references)
     for block in blocks:
         builder.rebuild(block)
