@@ -5,48 +5,12 @@ import itertools
 import random
 import unittest
 
+from tests.plain_filters import plain_deblock, plain_limit, plain_smooth
 from tests.plain_planes import side_of
 from thaumatrope.deblock import deblock, edge_limit, smooth_edge
 from thaumatrope.errors import OutOfRange
 from thaumatrope.frames import Format
 from thaumatrope.headers import PictureHeader, Settings
-
-
-def plain_limit(first, second, edge):
-    m = (first + second) >> 1
-    return (1 + m + m * m // 4) * (8 + edge) >> 4
-
-
-def plain_smooth(a1, a0, b0, b1, t, top):
-    if not (abs(a1 - a0) < t and abs(b1 - b0) < t and abs(a0 - b0) < 2 * t):
-        return a0, b0
-    d = max(-t, min(t, (3 * (b0 - a0) + a1 - b1 + 4) >> 3))
-    return max(0, min(top, a0 + d)), max(0, min(top, b0 - d))
-
-
-def plain_deblock(fmt, header, planes, blocks):
-    """The planes after the filter in the words of point 51: edge by edge, and sample by sample."""
-    planes = copy.deepcopy(planes)
-    for index, plane in enumerate(planes):
-        e = side_of(fmt, index)
-
-        def smooth(one, other, places):
-            (level, skipped), (twin, twin_skipped) = one, other
-            if not (skipped and twin_skipped):
-                samples = [plane[row][column] for row, column in places]
-                t = plain_limit(level, twin, header.edge)
-                (y, x), (v, u) = places[1:3]
-                plane[y][x], plane[v][u] = plain_smooth(*samples, t, 2 ** fmt.depth - 1)
-
-        for x in range(e, len(plane[0]), e):
-            for y in range(len(plane)):
-                one, other = blocks[y // e][x // e - 1], blocks[y // e][x // e]
-                smooth(one, other, [(y, x + k) for k in (-2, -1, 0, 1)])
-        for y in range(e, len(plane), e):
-            for x in range(len(plane[0])):
-                one, other = blocks[y // e - 1][x // e], blocks[y // e][x // e]
-                smooth(one, other, [(y + k, x) for k in (-2, -1, 0, 1)])
-    return planes
 
 
 def header_of(fmt, edge=0):

@@ -7,12 +7,15 @@ import re
 import unittest
 
 from thaumatrope.bits import BitWriter
+from thaumatrope.choices import Choices
 from thaumatrope.coder import Encoder
 from thaumatrope.deblock import edge_limit, smooth_edge
+from thaumatrope.decoder import decode_stream
 from thaumatrope.filters import quarter_sample
 from thaumatrope.frames import Format
 from thaumatrope.quant import quantize
 from thaumatrope.residue import scan_order
+from thaumatrope.search import block_price, near_vectors
 from thaumatrope.transform import forward, split_pair, turn_pair
 from thaumatrope.units import escape, read_units
 
@@ -73,6 +76,18 @@ FUNCTIONS = {
         "deblock(fmt, header, planes, blocks)",
     ],
     "offset": ["apply_offsets(settings, planes, offsets)"],
+    "picture": [
+        "middle_planes(fmt)", "references_of(settings, header, slots)",
+        "rebuild_picture(settings, header, slices, slots, *, previous=None)",
+    ],
+    "decoder": ["decode_stream(octets)"],
+    "encoder": [
+        "check_pictures(settings, pictures)", "write_stream(settings, pictures)",
+        "rebuild_pictures(settings, pictures)", "encode_frames(settings, frames, headers, choices)",
+    ],
+    "search": [
+        "block_price(block)", "near_vectors(vector)", "search_frames(settings, frames, headers, *, weight=0)",
+    ],
 }
 CLASSES = {
     ("frames", "Format"): [
@@ -115,6 +130,10 @@ CLASSES = {
         "__init__(self, columns, rows)", "keep(self, column, row, motions)", "keep_quarter(self, x, y, motion)",
         "motion_at(self, x, y)", "predicted(self, x, y, *, second=False)", "skipped(self, column, row, kind)",
     ],
+    ("decoder", "StreamDecoder"): [
+        "__init__(self)", "take(self, kind, payload)", "finish(self)", "current_settings", "current_header",
+    ],
+    ("choices", "Choices"): ["__init__(self, numbers)", "among(self, count)", "left"],
 }
 
 
@@ -182,6 +201,16 @@ class Examples(unittest.TestCase):
     def test_deblock(self):
         self.assertEqual(edge_limit(4, 6, 0), 6)
         self.assertEqual(smooth_edge(100, 100, 108, 108, limit=6, top=255), (102, 106))
+
+    def test_decoder(self):
+        self.assertEqual(decode_stream([]), [])
+
+    def test_choices(self):
+        self.assertEqual(Choices([7, 9]).among(4), 3)
+
+    def test_search(self):
+        self.assertEqual(block_price(("intra", [0], 0, [[[2] + [0] * 63]])), 6)
+        self.assertEqual(near_vectors((1, -1022)), [(1, -1022), (-3, -1022), (5, -1022), (1, -1023), (1, -1018)])
 
     def test_readme(self):
         text = (pathlib.Path(__file__).resolve().parent.parent / "README.md").read_text()

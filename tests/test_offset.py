@@ -5,49 +5,12 @@ import itertools
 import random
 import unittest
 
+from tests.plain_filters import NEIGHBOURS, plain_offsets
 from tests.plain_planes import random_planes, side_of
 from tests.plain_syntax import random_offsets
 from thaumatrope.frames import Format
 from thaumatrope.headers import Settings
 from thaumatrope.offset import apply_offsets
-
-# The places (column, row) of the neighbours beside a sample, for each direction.
-NEIGHBOURS = {
-    0: [(-1, 0), (1, 0)],
-    1: [(0, -1), (0, 1)],
-    2: [(-1, -1), (1, 1)],
-    3: [(-1, 1), (1, -1)],
-}
-
-
-def plain_sample(fmt, plane, x, y, direction, values):
-    """The sample at column x and row y after the filter."""
-    s = plane[y][x]
-    neighbours = []
-    for right, down in NEIGHBOURS[direction]:
-        if not (0 <= x + right < len(plane[0]) and 0 <= y + down < len(plane)):
-            return s
-        neighbours.append(plane[y + down][x + right])
-    c = sum((s > other) - (s < other) for other in neighbours)
-    if c == 0:
-        return s
-    change = values[{-2: 0, -1: 1, 1: 2, 2: 3}[c]] * 2 ** (fmt.depth - 8)
-    return max(0, min(2 ** fmt.depth - 1, s + change))
-
-
-def plain_offsets(settings, planes, offsets):
-    """The planes after the filter in the words of point 52."""
-    result = copy.deepcopy(planes)
-    for index, items in enumerate(offsets):
-        for number, item in enumerate(items or []):
-            if item is not None:
-                plane = planes[number]
-                e = side_of(settings.fmt, number)
-                first = index * settings.rows * e
-                for y in range(first, min(len(plane), first + settings.rows * e)):
-                    for x in range(len(plane[0])):
-                        result[number][y][x] = plain_sample(settings.fmt, plane, x, y, *item)
-    return result
 
 
 class Offsets(unittest.TestCase):

@@ -5,6 +5,12 @@ from thaumatrope.bits import BitReader, BitWriter
 from thaumatrope.errors import BadFormat, BadHeader, BadOctets, OutOfBits, OutOfRange
 from thaumatrope.frames import Format
 
+# The kinds of units.
+SEQUENCE = 1
+PICTURE = 2
+SLICE = 3
+END = 4
+NOTE = 5
 VERSION = 1
 # A payload has the place of the kind in this tuple.
 KINDS = ("I", "P", "B")

@@ -90,6 +90,15 @@ def read_motion(reader, header, grid, x, y):
     return direction, index, first, second
 
 
+def clip_vector(x, y):
+    """Return the vector that is nearest to these components."""
+    return _clip_component(x), _clip_component(y)
+
+
+def _clip_component(component):
+    return clip(component, -GREATEST_COMPONENT, GREATEST_COMPONENT)
+
+
 def _median(numbers):
     return sorted(numbers)[1]
 
@@ -102,8 +111,4 @@ def _write_vector(writer, vector, predicted):
 def _read_vector(reader, predicted):
     x = predicted[0] + reader.signed(VECTOR_X)
     y = predicted[1] + reader.signed(VECTOR_Y)
-    return _clip_component(x), _clip_component(y)
-
-
-def _clip_component(component):
-    return clip(component, -GREATEST_COMPONENT, GREATEST_COMPONENT)
+    return clip_vector(x, y)
