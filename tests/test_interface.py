@@ -6,14 +6,19 @@ import pathlib
 import re
 import unittest
 
+from thaumatrope import errors
 from thaumatrope.bits import BitWriter
 from thaumatrope.choices import Choices
 from thaumatrope.coder import Encoder
+from thaumatrope.container import pack_container
 from thaumatrope.deblock import edge_limit, smooth_edge
 from thaumatrope.decoder import decode_stream
+from thaumatrope.desk import Desk
 from thaumatrope.filters import quarter_sample
 from thaumatrope.frames import Format
 from thaumatrope.quant import quantize
+from thaumatrope.rate import Bucket
+from thaumatrope.report import report_stream
 from thaumatrope.residue import scan_order
 from thaumatrope.search import block_price, near_vectors
 from thaumatrope.transform import forward, split_pair, turn_pair
@@ -88,6 +93,15 @@ FUNCTIONS = {
     "search": [
         "block_price(block)", "near_vectors(vector)", "search_frames(settings, frames, headers, *, weight=0)",
     ],
+    "rate": [
+        "picture_size(settings, header, slices)",
+        "control_frames(settings, frames, headers, *, weight=0, rate, capacity)",
+    ],
+    "layers": ["is_layered(settings, headers)", "drop_layers(octets, most)"],
+    "container": [
+        "split_segments(octets)", "pack_container(entries)", "open_container(octets)", "seek_container(octets, time)",
+    ],
+    "report": ["report_stream(octets)"],
 }
 CLASSES = {
     ("frames", "Format"): [
@@ -134,7 +148,11 @@ CLASSES = {
         "__init__(self)", "take(self, kind, payload)", "finish(self)", "current_settings", "current_header",
     ],
     ("choices", "Choices"): ["__init__(self, numbers)", "among(self, count)", "left"],
+    ("rate", "Bucket"): ["__init__(self, *, rate, capacity)", "fits(self, size)", "enter(self, size)"],
+    ("desk", "Desk"): ["__init__(self)", "run(self, line)"],
 }
+ERRORS = """CodecError BadFormat BadFrame OutOfRange OutOfBits BadOctets BadHeader BadData BadContainer BadCommand
+    CapacityTooSmall""".split()
 
 
 class Names(unittest.TestCase):
@@ -156,6 +174,12 @@ class Names(unittest.TestCase):
                     self.assertEqual(word + str(inspect.signature(made.__dict__[word])), text)
                 else:
                     self.assertIsInstance(made.__dict__[word], property)
+
+    def test_errors(self):
+        for name in ERRORS:
+            made = getattr(errors, name)
+            self.assertEqual(made.__module__, "thaumatrope.errors")
+            self.assertTrue(issubclass(made, errors.CodecError))
 
     def test_class_method(self):
         self.assertIsInstance(Format.__dict__["parse"], classmethod)
@@ -211,6 +235,24 @@ class Examples(unittest.TestCase):
     def test_search(self):
         self.assertEqual(block_price(("intra", [0], 0, [[[2] + [0] * 63]])), 6)
         self.assertEqual(near_vectors((1, -1022)), [(1, -1022), (-3, -1022), (5, -1022), (1, -1023), (1, -1018)])
+
+    def test_rate(self):
+        bucket = Bucket(rate=3, capacity=10)
+        self.assertEqual(bucket.enter(8), 8)
+        self.assertEqual(bucket.fullness, 5)
+        self.assertEqual(bucket.fits(6), False)
+
+    def test_container(self):
+        self.assertEqual(pack_container([(5, [1, 2])]), [84, 72, 65, 85, 0, 1, 0, 0, 0, 5, 0, 0, 0, 2, 1, 2])
+
+    def test_report(self):
+        self.assertEqual(report_stream([0, 0, 1, 4, 128]), [(0, 4, 2, "end")])
+
+    def test_desk(self):
+        desk = Desk()
+        self.assertEqual(desk.run("format 8 8 8 0 1 1 0 0 1"), "ok")
+        with self.assertRaises(errors.BadCommand):
+            desk.run("flat 300")
 
     def test_readme(self):
         text = (pathlib.Path(__file__).resolve().parent.parent / "README.md").read_text()

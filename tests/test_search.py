@@ -126,6 +126,8 @@ class ByHand(unittest.TestCase):
         self.assertEqual(self.search(frames, headers, 0)[1], ("inter", [(0, 0, (0, 0), None)], 8, [[[2] + [0] * 63]]))
         self.assertEqual(self.search(frames, headers, 1)[1], ("intra", [0], 0, [[[-1] + [0] * 63]]))
         self.assertEqual(self.search(frames, headers, 10 ** 9)[1], ("skip",))
+        # Without a weight it is 0.
+        self.assertEqual(search_frames(ONE, frames, headers), search_frames(ONE, frames, headers, weight=0))
 
     def test_vectors_in_order(self):
         # A frame that ascends to the right: 4 more for each column. One column further to the right or left is 4 quarters.
@@ -165,8 +167,12 @@ class ByHand(unittest.TestCase):
             blocks = self.search([self.flat(20), self.flat(60), self.flat(value)], headers, 1)
             expected = ("inter", [motion], 8, zeros(0, 8)) if motion else ("skip",)
             self.assertEqual(blocks[2], expected)
-        # Skipped blocks and direction 2 have the same error: only with a weight below 0 it could be taken.
+        # Without levels, direction 2 has the samples of the skipped block, and a price.
         self.assertEqual(self.search([self.flat(20), self.flat(60), self.flat(31)], headers)[2], ("skip",))
+        # The mean is 40. At the level 4 exactly 9 is added to it; from 20, 60 and 128 an error of 2 or more is left.
+        headers[2] = PictureHeader(ONE, number=2, kind="B", refs=[0, 1], level=4)
+        block = self.search([self.flat(20), self.flat(60), self.flat(49)], headers, 1)[2]
+        self.assertEqual(block, ("inter", [(2, 0, (0, 0), (0, 0))], 8, [[[1] + [0] * 63]]))
 
     def test_the_chroma_mode_is_that_of_the_mode(self):
         settings = Settings(Format(16, 16, chroma=2), rows=2)

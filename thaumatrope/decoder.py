@@ -68,8 +68,9 @@ class StreamDecoder:
         planes = rebuild_picture(
             segment.settings, self._header, self._slices, segment.slots, previous=segment.previous,
         )
+        segment.keep(self._header, planes)
         complete = len(self._slices) == segment.settings.slices()
-        segment.keep(self._header, planes, complete)
+        segment.show(self._header, planes, complete)
         self._header = None
         self._slices = {}
 

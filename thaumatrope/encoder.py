@@ -3,11 +3,10 @@
 from thaumatrope.choices import Choices
 from thaumatrope.data import check_slice
 from thaumatrope.errors import BadData
-from thaumatrope.frames import pad_frame
 from thaumatrope.headers import (
     END, PICTURE, SEQUENCE, SLICE, SliceHeader, write_picture, write_settings, write_slice,
 )
-from thaumatrope.making import PictureMaker, check_headers, check_numbers
+from thaumatrope.making import check_headers, check_numbers, make_pictures
 from thaumatrope.picture import rebuild_picture
 from thaumatrope.segment import Segment
 from thaumatrope.syntax import write_data
@@ -50,7 +49,8 @@ def rebuild_pictures(settings, pictures):
     segment = Segment(settings)
     for header, slices in pictures:
         planes = rebuild_picture(settings, header, dict(enumerate(slices)), segment.slots)
-        segment.keep(header, planes, True)
+        segment.keep(header, planes)
+        segment.show(header, planes, True)
     return segment.shown_pictures()
 
 
@@ -58,15 +58,11 @@ def encode_frames(settings, frames, headers, choices):
     """Return pictures with these headers, made by choices."""
     check_headers(frames, headers)
     taken = Choices(choices)
-    segment = Segment(settings)
-    pictures = []
-    for header in headers:
-        source = pad_frame(settings.fmt, frames[header.number])
-        maker = PictureMaker(segment, header, source)
-        slices = [_encode_slice(maker, index, taken) for index in range(settings.slices())]
-        segment.keep(header, maker.finished_planes(slices), True)
-        pictures.append((header, slices))
-    return pictures
+
+    def make_slices(maker):
+        return [_encode_slice(maker, index, taken) for index in range(settings.slices())]
+
+    return make_pictures(settings, frames, headers, make_slices)
 
 
 def _encode_slice(maker, index, choices):

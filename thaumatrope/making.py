@@ -2,11 +2,13 @@
 
 from thaumatrope.data import level_shape
 from thaumatrope.errors import BadData
+from thaumatrope.frames import pad_frame
 from thaumatrope.headers import level_with
 from thaumatrope.picture import filter_planes, middle_planes, references_of
 from thaumatrope.quant import quantize_square
 from thaumatrope.rebuild import SliceBuilder
 from thaumatrope.residue import to_levels
+from thaumatrope.segment import Segment
 from thaumatrope.transform import forward_square
 
 
@@ -21,6 +23,18 @@ def check_headers(frames, headers):
     check_numbers(headers)
     if any([header.number >= len(frames) for header in headers]):
         raise BadData("there is no frame for a header")
+
+
+def make_pictures(settings, frames, headers, make_slices):
+    """Return pictures with these headers, of which a function makes the slices with a PictureMaker."""
+    segment = Segment(settings)
+    pictures = []
+    for header in headers:
+        maker = PictureMaker(segment, header, pad_frame(settings.fmt, frames[header.number]))
+        slices = make_slices(maker)
+        segment.keep(header, maker.finished_planes(slices))
+        pictures.append((header, slices))
+    return pictures
 
 
 class PictureMaker:

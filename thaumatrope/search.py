@@ -1,9 +1,7 @@
 """Searching for the blocks of the least cost (points 63 to 65)."""
 
 from thaumatrope.errors import OutOfRange
-from thaumatrope.frames import pad_frame
-from thaumatrope.making import PictureMaker, check_headers
-from thaumatrope.segment import Segment
+from thaumatrope.making import check_headers, make_pictures
 from thaumatrope.vectors import clip_vector
 
 PRICES = {"skip": 0, "intra": 1, "inter": 3}
@@ -33,15 +31,11 @@ def search_frames(settings, frames, headers, *, weight=0):
     """Return pictures with these headers, made of the blocks of the least cost."""
     check_weight(weight)
     check_headers(frames, headers)
-    segment = Segment(settings)
-    pictures = []
-    for header in headers:
-        source = pad_frame(settings.fmt, frames[header.number])
-        maker = PictureMaker(segment, header, source)
-        slices = search_slices(maker, weight)
-        segment.keep(header, maker.finished_planes(slices), True)
-        pictures.append((header, slices))
-    return pictures
+
+    def make_slices(maker):
+        return search_slices(maker, weight)
+
+    return make_pictures(settings, frames, headers, make_slices)
 
 
 def check_weight(weight):

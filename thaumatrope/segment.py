@@ -13,11 +13,14 @@ class Segment:
         self.previous = None
         self._shown = {}
 
-    def keep(self, header, planes, complete):
-        """Take the coded planes of the next picture."""
+    def keep(self, header, planes):
+        """Take the coded planes of the next picture, for the pictures behind it."""
         self.previous = planes
         for slot in header.store:
             self.slots[slot] = planes
+
+    def show(self, header, planes, complete):
+        """Take the frame of the next picture, if it is shown."""
         if header.shown:
             frame = crop_planes(self.settings.fmt, planes)
             self._shown[header.number] = (header.number, frame, complete)
