@@ -145,6 +145,26 @@ class Sources(unittest.TestCase):
                 self.assertFalse({argument.arg for argument in arguments} & classes)
             self.assertFalse(re.search(r"\b_wall|_WallAttr", path.read_text()))
 
+    def test_no_local_name_is_that_of_an_import_or_a_class(self):
+        for _, tree in self.each():
+            outer = {alias.name for node in modules_in(tree) for alias in node.names}
+            outer |= {node.name for node in tree.body if isinstance(node, ast.ClassDef)}
+            for function in functions_in(tree):
+                inner = {node.arg for node in ast.walk(function) if isinstance(node, ast.arg)}
+                inner |= {node.id for node in ast.walk(function)
+                          if isinstance(node, ast.Name) and isinstance(node.ctx, ast.Store)}
+                inner |= {node.name for node in ast.walk(function)
+                          if isinstance(node, ast.FunctionDef) and node is not function}
+                self.assertFalse(inner & outer, function.name)
+
+    def test_no_name_is_a_method_and_an_attribute_of_a_class(self):
+        for _, tree in self.each():
+            for made in [node for node in tree.body if isinstance(node, ast.ClassDef)]:
+                methods = {node.name for node in made.body if isinstance(node, ast.FunctionDef)}
+                attributes = {node.attr for node in ast.walk(made)
+                              if isinstance(node, ast.Attribute) and isinstance(node.ctx, ast.Store)}
+                self.assertFalse(methods & attributes, made.name)
+
     def test_calls(self):
         trees = [tree_of(path) for path in files()]
         own = {node.name for tree in trees for node in functions_in(tree)}
